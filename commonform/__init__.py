@@ -1,0 +1,1 @@
+"""Commonform: the nearest form that letters have in common."""
