@@ -6,6 +6,8 @@ A tree is ("block", name, parts), parts a tuple of trees, or ("blank", number).
 from commonform.errors import NoPlace
 
 MOST_NAME_SIGNS = 12
+MOST_KNOTS = 200
+MOST_DEPTH = 30
 
 
 def is_letter(sign):

@@ -1,13 +1,11 @@
 """Trees written as texts, and texts read as trees."""
 
 from commonform.errors import BadText, TooLong
-from commonform.trees import is_figure, is_letter, is_name, parts_of
+from commonform.trees import MOST_DEPTH, MOST_KNOTS, is_figure, is_letter, is_name, parts_of
 
 MOST_BLANK = 1000000000
 MOST_BLANK_FIGURES = 10
 MOST_PARTS = 9
-MOST_KNOTS = 200
-MOST_DEPTH = 30
 
 
 def written(tree):

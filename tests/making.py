@@ -1,4 +1,4 @@
-"""Trees for the tests, made without the program."""
+"""Trees for the tests, and a slow search, made without the program."""
 
 
 def block(name, *parts):
@@ -51,3 +51,45 @@ def trees_of(knots, leaves, names):
 def trees_up_to(knots, leaves, names):
     """All trees of at most this many knots, with these leaves and these names above them."""
     return [tree for count in range(1, knots + 1) for tree in trees_of(count, leaves, names)]
+
+
+def reached(tree, bound):
+    """All blanks within a tree, and within the trees that these stand for."""
+    found = []
+    pending = [tree]
+    while pending:
+        here = pending.pop()
+        if here[0] == "block":
+            pending.extend(here[2])
+        elif here not in found:
+            found.append(here)
+            pending.extend([bound[here[1]]] if here[1] in bound else [])
+    return found
+
+
+def unified(one, other, bound):
+    """Whether trees without a common blank can be made one; what their blanks then stand for is put into bound."""
+    while one[0] == "blank" and one[1] in bound:
+        one = bound[one[1]]
+    while other[0] == "blank" and other[1] in bound:
+        other = bound[other[1]]
+    if one == other:
+        return True
+    if one[0] == "blank":
+        if one in reached(other, bound):
+            return False
+        bound[one[1]] = other
+        return True
+    if other[0] == "blank":
+        return unified(other, one, bound)
+    if one[1] != other[1] or len(one[2]) != len(other[2]):
+        return False
+    return all(unified(left, right, bound) for left, right in zip(one[2], other[2]))
+
+
+def random_form(chance, depth, blanks, names):
+    """A form of at most this depth; chance is a random.Random of a fixed seed."""
+    if depth == 1 or chance.random() < 0.2:
+        return blank(chance.randint(1, blanks)) if chance.random() < 0.7 else block(chance.choice(names))
+    name = names[0] if chance.random() < 0.7 else chance.choice(names)
+    return block(name, *[random_form(chance, depth - 1, blanks, names) for _ in range(chance.choice([2, 2, 2, 2, 3]))])

@@ -126,6 +126,40 @@ class Form(unittest.TestCase):
                     with self.subTest(path=path.name, line=node.lineno):
                         self.assertIn(node.func.attr, allowed)
 
+    def test_locals_are_not_called_like_imports_or_classes(self):
+        for path in FILES:
+            nodes = nodes_of(path)
+            taken = {name.name for node in nodes if isinstance(node, ast.ImportFrom) for name in node.names}
+            taken |= {node.name for node in nodes if isinstance(node, ast.ClassDef)}
+            for node in nodes:
+                if isinstance(node, (ast.Name, ast.arg, ast.FunctionDef)):
+                    with self.subTest(path=path.name, line=node.lineno):
+                        self.assertEqual(taken.intersection(bound_names(node)), set())
+
+    def test_no_name_is_a_method_and_a_value(self):
+        values = {
+            name for path in FILES for node in nodes_of(path) if isinstance(node, ast.Attribute) for name in bound_names(node)
+        }
+        self.assertEqual(values & (METHODS | set(own_methods())), set())
+
+    def test_no_round_of_imports(self):
+        drawn = {}
+        for path in FILES:
+            rows = [node for node in nodes_of(path) if isinstance(node, ast.ImportFrom)]
+            drawn["commonform." + path.stem] = {node.module for node in rows}
+        while drawn:
+            ends = [name for name in drawn if not drawn[name] & set(drawn)]
+            self.assertNotEqual(ends, [], drawn)
+            for name in ends:
+                drawn.pop(name)
+
+    def test_is_stands_beside_none_and_truths_alone(self):
+        for path in FILES:
+            for node in nodes_of(path):
+                if isinstance(node, ast.Compare) and isinstance(node.ops[0], (ast.Is, ast.IsNot)):
+                    with self.subTest(path=path.name, line=node.lineno):
+                        self.assertIn(ast.unparse(node.comparators[0]), ("None", "True", "False"))
+
 
 if __name__ == "__main__":
     unittest.main()
