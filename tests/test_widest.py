@@ -422,6 +422,8 @@ class ByWidest(unittest.TestCase):
             for tree in [one, other, A, blank(1), block("a", *[bushy(133)] * 3), chain(60)]:
                 self.assertIsNone(by_widest(one, other, tree))
                 self.assertIsNone(by_widest(other, one, tree))
+        # Point 22 says always, so also of a tree that lies beyond the bound itself.
+        self.assertIsNone(by_widest(*tripled(bushy(134), []), block("a", *[bushy(134)] * 3)))
 
     def test_all_small_ones(self):
         trees = FEW + ROWS[::9] + [block("c", A, A, A), block("c", block("b", A), A, block("b", A))]
